@@ -1,0 +1,1 @@
+"""Oathduel: sentences that two hands fill in by turns."""

@@ -1,0 +1,60 @@
+"""Point 6: every refusal is a class of its own under DuelError."""
+
+import unittest
+
+from oathduel import errors
+from oathduel.errors import DuelError
+from oathduel.sentences import hand_of, stands_by
+from oathduel.walks import winning_choices
+
+NAMES = ("NoVariable", "NoFilling", "BadLine", "NotWhole", "NoHand", "BadStep", "NoForm", "TooMany", "NoText")
+
+
+def refusals():
+    return [getattr(errors, name) for name in NAMES]
+
+
+class ErrorsTest(unittest.TestCase):
+    def test_duel_error_is_a_value_error(self):
+        self.assertTrue(issubclass(DuelError, ValueError))
+        self.assertIsNot(DuelError, ValueError)
+
+    def test_each_refusal_stands_under_duel_error(self):
+        for refusal in refusals():
+            self.assertTrue(issubclass(refusal, DuelError), refusal)
+            self.assertIsNot(refusal, DuelError)
+
+    def test_no_refusal_stands_above_another(self):
+        for upper in refusals():
+            under = [refusal for refusal in refusals() if issubclass(refusal, upper)]
+            self.assertEqual(under, [upper])
+
+    def test_the_refusals_are_nine_classes(self):
+        self.assertEqual(len(set(refusals())), 9)
+
+    def test_each_refusal_can_be_raised_and_taken_by_its_own_name(self):
+        for refusal in refusals():
+            with self.assertRaises(refusal) as taken:
+                raise refusal(3)
+            self.assertIs(type(taken.exception), refusal)
+
+    def test_a_bad_line_tells_its_place(self):
+        for place in (0, 1, 1999):
+            self.assertEqual(errors.BadLine(place).place, place)
+
+    def test_what_is_raised_is_no_variable_and_nothing_else(self):
+        questions = (
+            lambda: stands_by(0, [True]),
+            lambda: hand_of(("ws", []), 3),
+            lambda: winning_choices(("ws", []), [True, False]),
+        )
+        for question in questions:
+            with self.assertRaises(ValueError) as taken:
+                question()
+            above = [refusal for refusal in refusals() if isinstance(taken.exception, refusal)]
+            self.assertEqual(above, [errors.NoVariable])
+            self.assertIsInstance(taken.exception, DuelError)
+
+
+if __name__ == "__main__":
+    unittest.main()
