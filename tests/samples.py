@@ -81,3 +81,121 @@ def plain_winner(sentence, begun):
 def plain_choices(sentence, begun):
     hand = plain_hand(sentence, len(begun) + 1)
     return [value for value in (False, True) if plain_winner(sentence, begun + [value]) == hand]
+
+
+def other_of(hand):
+    return "spoiler" if hand == "wisher" else "wisher"
+
+
+def plain_variables(sentence, hand):
+    return [k + 1 for k in range(len(sentence[0])) if plain_hand(sentence, k + 1) == hand]
+
+
+def plain_drop(sentence, hand, literals):
+    """The set without the hand's literals whose variable is greater than each one of the other hand's."""
+    others = [abs(literal) for literal in literals if plain_hand(sentence, abs(literal)) != hand]
+    return tuple(
+        literal for literal in literals
+        if plain_hand(sentence, abs(literal)) != hand or not all(abs(literal) > other for other in others)
+    )
+
+
+def plain_join(first, second, variable):
+    """All literals of both but the variable's: not asked whether a variable stands both ways."""
+    both = {literal for literal in first + second if abs(literal) != variable}
+    return tuple(sorted(both, key=lambda literal: (abs(literal), literal)))
+
+
+def plain_line_set(sentence, hand, line, sets):
+    """What a line of one of the four words and of whole numbers comes to; None where it, or one it names, is bad."""
+    word = line[0]
+    if word == "given":
+        return dict(enumerate(sentence[1])).get(line[1]) if hand == "spoiler" else None
+    if word == "hits":
+        hit = all(set(clause) & set(line[1]) for clause in sentence[1])
+        return line[1] if hand == "wisher" and hit else None
+    named = line[1:2] if word == "drop" else line[1:3]
+    if not all(0 <= number < len(sets) and sets[number] is not None for number in named):
+        return None
+    if word == "drop":
+        return plain_drop(sentence, hand, sets[line[1]])
+    first, second, variable = sets[line[1]], sets[line[2]], line[3]
+    if variable not in plain_variables(sentence, other_of(hand)) or variable not in first or -variable not in second:
+        return None
+    both = plain_join(first, second, variable)
+    return None if any(-literal in both for literal in both) else both
+
+
+class PaperMaker:
+    """Makes a whole paper of the hand that wins, by a walk through the fillings."""
+
+    def __init__(self, sentence):
+        self.sentence = sentence
+        self.hand = plain_winner(sentence, [])
+        self.lines = []
+        self.sets = []
+        self.walk([])
+
+    def put(self, line, literals):
+        self.lines.append(line)
+        self.sets.append(literals)
+        return len(self.lines) - 1
+
+    def put_with_drop(self, line, literals):
+        place = self.put(line, literals)
+        left = plain_drop(self.sentence, self.hand, literals)
+        return place if left == literals else self.put(("drop", place), left)
+
+    def put_end(self, filling):
+        standing = tuple(k + 1 if value else -k - 1 for k, value in enumerate(filling))
+        if self.hand == "wisher":
+            return self.put_with_drop(("hits", standing), standing)
+        clauses = self.sentence[1]
+        place = [k for k, clause in enumerate(clauses) if not set(clause) & set(standing)][0]
+        return self.put_with_drop(("given", place), clauses[place])
+
+    def walk(self, begun):
+        """The place of a line that tells that the hand wins from what is begun."""
+        if len(begun) == len(self.sentence[0]):
+            return self.put_end(begun)
+        variable = len(begun) + 1
+        if plain_hand(self.sentence, variable) == self.hand:
+            return self.walk(begun + plain_choices(self.sentence, begun)[:1])
+        # By the filling with no, the spoiler's set has v and the wisher's -v, if they have the variable at all.
+        values = (False, True) if self.hand == "spoiler" else (True, False)
+        places = [self.walk(begun + [value]) for value in values]
+        for place, literal in zip(places, (variable, -variable)):
+            if literal not in self.sets[place]:
+                # The last line is to be the one that tells it.
+                return self.put(("drop", place), plain_drop(self.sentence, self.hand, self.sets[place]))
+        literals = plain_join(self.sets[places[0]], self.sets[places[1]], variable)
+        return self.put_with_drop(("join", places[0], places[1], variable), literals)
+
+
+def whole_paper(sentence):
+    maker = PaperMaker(sentence)
+    return (maker.hand, maker.lines)
+
+
+def plain_filling(sentence, hand, plan, others):
+    """What comes of a plan of the hand and of the other hand's values, in their order."""
+    entries = {variable: (rules, otherwise) for variable, rules, otherwise in plan}
+    filling = []
+    behind = list(others)
+    for variable in range(1, len(sentence[0]) + 1):
+        if plain_hand(sentence, variable) != hand:
+            filling.append(behind.pop(0))
+            continue
+        rules, otherwise = entries[variable]
+        values = [value for literals, value in rules if all(filling[abs(x) - 1] is (x > 0) for x in literals)]
+        filling.append((values + [otherwise])[0])
+    return filling
+
+
+def plan_wins(sentence, hand, plan):
+    """Whether the plan wins for the hand, whatever the other one fills in."""
+    fillings = [
+        plain_filling(sentence, hand, plan, others)
+        for others in all_fillings(len(plain_variables(sentence, other_of(hand))))
+    ]
+    return all(plainly_true(sentence, filling) is (hand == "wisher") for filling in fillings)

@@ -4,6 +4,8 @@ import unittest
 
 from oathduel import errors
 from oathduel.errors import DuelError
+from oathduel.papers import sets_of
+from oathduel.plans import plan_of
 from oathduel.sentences import hand_of, stands_by
 from oathduel.walks import winning_choices
 
@@ -42,6 +44,15 @@ class ErrorsTest(unittest.TestCase):
         for place in (0, 1, 1999):
             self.assertEqual(errors.BadLine(place).place, place)
 
+    def assert_refused(self, refusal, question):
+        """Refused with this class, and with none of the package's others but DuelError."""
+        with self.assertRaises(ValueError) as taken:
+            question()
+        above = [other for other in refusals() if isinstance(taken.exception, other)]
+        self.assertEqual(above, [refusal])
+        self.assertIsInstance(taken.exception, DuelError)
+        return taken.exception
+
     def test_what_is_raised_is_no_variable_and_nothing_else(self):
         questions = (
             lambda: stands_by(0, [True]),
@@ -49,11 +60,19 @@ class ErrorsTest(unittest.TestCase):
             lambda: winning_choices(("ws", []), [True, False]),
         )
         for question in questions:
-            with self.assertRaises(ValueError) as taken:
-                question()
-            above = [refusal for refusal in refusals() if isinstance(taken.exception, refusal)]
-            self.assertEqual(above, [errors.NoVariable])
-            self.assertIsInstance(taken.exception, DuelError)
+            self.assert_refused(errors.NoVariable, question)
+
+    def test_what_is_raised_is_bad_line_and_nothing_else(self):
+        for paper, place in ((("spoiler", [None]), 0), (("spoiler", [("given", 0), ("drop", 1)]), 1),
+                             (("wisher", [("hits", (1,)), ("hits", (1, 3))]), 1), (("wisher", [("given", 0)]), 0)):
+            for question in (sets_of, plan_of):
+                refused = self.assert_refused(errors.BadLine, lambda: question(("ws", [(1, 2)]), paper))
+                self.assertEqual(refused.place, place)
+                self.assertNotIsInstance(refused.place, bool)
+
+    def test_what_is_raised_is_not_whole_and_nothing_else(self):
+        for paper in (("spoiler", []), ("wisher", []), ("spoiler", [("given", 0)]), ("wisher", [("hits", (2,))])):
+            self.assert_refused(errors.NotWhole, lambda: plan_of(("ws", [(1, 2)]), paper))
 
 
 if __name__ == "__main__":

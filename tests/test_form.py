@@ -148,6 +148,42 @@ class CodeTest(unittest.TestCase):
             if isinstance(node, ast.Call) and isinstance(node.func, ast.Attribute):
                 self.assertIn(node.func.attr, PYTHONS_METHODS | own, f"{name}:{node.lineno}")
 
+    def test_keywords_of_pythons_own_functions(self):
+        allowed = {
+            "sorted": {"key", "reverse"}, "min": {"key", "default"}, "max": {"key", "default"}, "sum": {"start"},
+            "enumerate": {"start"}, "zip": {"strict"},
+        }
+        for name, node in nodes():
+            if isinstance(node, ast.Call) and isinstance(node.func, ast.Name) and node.func.id in dir(builtins):
+                words = {keyword.arg for keyword in node.keywords}
+                self.assertLessEqual(words, allowed.get(node.func.id, set()), f"{name}:{node.lineno}")
+
+    def test_an_assignment_has_one_target(self):
+        for name, node in nodes():
+            if isinstance(node, ast.Assign):
+                self.assertEqual(len(node.targets), 1, f"{name}:{node.lineno}")
+                self.assertNotIsInstance(node.targets[0], (ast.Tuple, ast.List), f"{name}:{node.lineno}")
+
+    def test_errors_are_taken_by_the_packages_own_names(self):
+        own = {node.name for name, node in nodes() if isinstance(node, ast.ClassDef)}
+        for name, node in nodes():
+            if isinstance(node, ast.ExceptHandler):
+                self.assertIsInstance(node.type, ast.Name, f"{name}:{node.lineno}")
+                self.assertIn(node.type.id, own, f"{name}:{node.lineno}")
+            if isinstance(node, ast.Try):
+                self.assertEqual(node.finalbody, [], f"{name}:{node.lineno}")
+
+    def test_names_of_pythons_own_functions_are_called_alone(self):
+        for name, tree in trees():
+            called = [node.func for node in ast.walk(tree) if isinstance(node, ast.Call)]
+            given = [node.value for node in ast.walk(tree) if isinstance(node, ast.keyword) and node.arg == "key"]
+            asked = [node.args[1] for node in ast.walk(tree) if isinstance(node, ast.Call) and node.args[1:]
+                     and isinstance(node.func, ast.Name) and node.func.id == "isinstance"]
+            kinds = [kind for node in asked for kind in ast.walk(node)]
+            for node in ast.walk(tree):
+                if isinstance(node, ast.Name) and node.id in OWN_NAMES and node.id[0].islower():
+                    self.assertIn(node, called + given + kinds, f"{name}:{node.lineno}")
+
     def test_is_stands_beside_none_true_and_false_alone(self):
         for name, node in nodes():
             if isinstance(node, ast.Compare) and isinstance(node.ops[0], (ast.Is, ast.IsNot)):
