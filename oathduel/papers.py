@@ -1,6 +1,6 @@
 """Papers: lines that each come to a set, by the sets of the lines ahead."""
 
-from oathduel.errors import BadLine
+from oathduel.errors import BadLine, NotWhole
 from oathduel.literals import dropped, joined, stands_both_ways, variables_of
 from oathduel.sentences import SPOILER, WISHER, is_number, is_set, other_hand
 
@@ -82,3 +82,10 @@ def is_whole(sentence, paper):
     except BadLine:
         return False
     return end_empty(sets)
+
+
+def whole_sets(sentence, paper):
+    sets = sets_of(sentence, paper)
+    if not end_empty(sets):
+        raise NotWhole("the last line does not come to the empty set")
+    return sets

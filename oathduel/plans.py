@@ -1,8 +1,7 @@
 """Plans: what a hand fills in, told by rules; and the plan that is read off a whole paper."""
 
-from oathduel.errors import NotWhole
 from oathduel.literals import turned_about, variables_of
-from oathduel.papers import end_empty, sets_of
+from oathduel.papers import whole_sets
 from oathduel.sentences import SPOILER, is_number, is_set
 
 
@@ -41,9 +40,7 @@ def rule_of(hand, literal, left):
 
 
 def plan_of(sentence, paper):
-    sets = sets_of(sentence, paper)
-    if not end_empty(sets):
-        raise NotWhole("the last line does not come to the empty set")
+    sets = whole_sets(sentence, paper)
     variables = variables_of(sentence, paper[0])
     rules = dict([(variable, []) for variable in variables])
     for line, left in zip(paper[1], sets):

@@ -199,3 +199,69 @@ def plan_wins(sentence, hand, plan):
         for others in all_fillings(len(plain_variables(sentence, other_of(hand))))
     ]
     return all(plainly_true(sentence, filling) is (hand == "wisher") for filling in fillings)
+
+
+def plain_sets(sentence, paper):
+    """What the lines of a paper come to, None for a bad one and for those that name one."""
+    sets = []
+    for line in paper[1]:
+        sets.append(plain_line_set(sentence, paper[0], line, sets))
+    return sets
+
+
+def drawn_plan(draw, sentence, hand):
+    """A plan of the hand, by chance with no rule, with rules that never stand together, or with some that do."""
+    return [
+        (
+            variable,
+            [
+                (drawn_set(draw, variable - 1) if variable > 1 else (), draw.choice((False, True)))
+                for k in range(draw.randint(0, 4))
+            ],
+            draw.choice((False, True)),
+        )
+        for variable in plain_variables(sentence, hand)
+    ]
+
+
+def drawn_line(draw, sentence, sets):
+    """A line that may well be bad."""
+    count = len(sentence[0])
+    word = draw.choice(("given", "hits", "join", "drop"))
+    if word == "given":
+        return (word, draw.randint(0, len(sentence[1])))
+    if word == "hits":
+        return (word, tuple(draw.choice((variable, -variable)) for variable in range(1, count + 1)))
+    if word == "join":
+        return (word, draw.randint(0, len(sets)), draw.randint(0, len(sets)), draw.randint(1, max(1, count)))
+    return (word, draw.randint(0, len(sets)))
+
+
+def padded_paper(draw, sentence):
+    """A whole paper of the hand that wins, with lines between that are not needed, or that are alike."""
+    hand, plain_lines = whole_paper(sentence)
+    lines, sets, numbers = [], [], []
+
+    def put_some():
+        for line in [drawn_line(draw, sentence, sets) for k in range(draw.randint(0, 6))]:
+            literals = plain_line_set(sentence, hand, line, sets)
+            if literals is not None:
+                lines.append(line)
+                sets.append(literals)
+
+    def alike(number):
+        return draw.choice([k for k, literals in enumerate(sets) if literals == sets[numbers[number]]])
+
+    for line in plain_lines:
+        put_some()
+        if line[0] == "join":
+            line = ("join", alike(line[1]), alike(line[2]), line[3])
+        elif line[0] == "drop":
+            line = ("drop", alike(line[1]))
+        numbers.append(len(lines))
+        lines.append(line)
+        sets.append(plain_line_set(sentence, hand, line, sets))
+    put_some()
+    if sets[-1] != ():
+        lines.append(("drop", alike(-1)))
+    return (hand, lines)

@@ -6,7 +6,10 @@ from oathduel import errors
 from oathduel.errors import DuelError
 from oathduel.papers import sets_of
 from oathduel.plans import plan_of
+from oathduel.players import Planned, played_by
+from oathduel.search import Searcher
 from oathduel.sentences import hand_of, stands_by
+from oathduel.shorter import joined_clauses, needed_lines, shortened_paper
 from oathduel.walks import winning_choices
 
 NAMES = ("NoVariable", "NoFilling", "BadLine", "NotWhole", "NoHand", "BadStep", "NoForm", "TooMany", "NoText")
@@ -58,6 +61,8 @@ class ErrorsTest(unittest.TestCase):
             lambda: stands_by(0, [True]),
             lambda: hand_of(("ws", []), 3),
             lambda: winning_choices(("ws", []), [True, False]),
+            lambda: Planned([(1, [], True)]).answer(2, [True]),
+            lambda: Planned([]).answer(0, []),
         )
         for question in questions:
             self.assert_refused(errors.NoVariable, question)
@@ -65,14 +70,27 @@ class ErrorsTest(unittest.TestCase):
     def test_what_is_raised_is_bad_line_and_nothing_else(self):
         for paper, place in ((("spoiler", [None]), 0), (("spoiler", [("given", 0), ("drop", 1)]), 1),
                              (("wisher", [("hits", (1,)), ("hits", (1, 3))]), 1), (("wisher", [("given", 0)]), 0)):
-            for question in (sets_of, plan_of):
+            for question in (sets_of, plan_of, needed_lines, shortened_paper, joined_clauses):
                 refused = self.assert_refused(errors.BadLine, lambda: question(("ws", [(1, 2)]), paper))
                 self.assertEqual(refused.place, place)
                 self.assertNotIsInstance(refused.place, bool)
 
     def test_what_is_raised_is_not_whole_and_nothing_else(self):
         for paper in (("spoiler", []), ("wisher", []), ("spoiler", [("given", 0)]), ("wisher", [("hits", (2,))])):
-            self.assert_refused(errors.NotWhole, lambda: plan_of(("ws", [(1, 2)]), paper))
+            for question in (plan_of, needed_lines, shortened_paper):
+                self.assert_refused(errors.NotWhole, lambda: question(("ws", [(1, 2)]), paper))
+        for sentence in (("", []), ("", [()]), ("ws", [(1, 2)])):
+            self.assert_refused(errors.NotWhole, lambda: Searcher(sentence).paper())
+
+    def test_what_is_raised_is_no_filling_and_nothing_else(self):
+        for others in ([], [True, True], [False] * 40):
+            self.assert_refused(
+                errors.NoFilling, lambda: played_by(("ws", []), "wisher", Planned([(1, [], True)]), others)
+            )
+
+    def test_what_is_raised_is_no_hand_and_nothing_else(self):
+        for lines in ([], [("hits", (1,))], [("hits", (2,)), ("drop", 0)]):
+            self.assert_refused(errors.NoHand, lambda: joined_clauses(("ws", [(1, 2)]), ("wisher", lines)))
 
 
 if __name__ == "__main__":

@@ -190,6 +190,35 @@ class CodeTest(unittest.TestCase):
                 self.assertIsInstance(node.comparators[0], ast.Constant, f"{name}:{node.lineno}")
                 self.assertIn(node.comparators[0].value, (None, True, False), f"{name}:{node.lineno}")
 
+    def test_no_name_is_a_method_here_and_a_value_there(self):
+        methods = set()
+        values = set()
+        for name, node in nodes():
+            if isinstance(node, ast.ClassDef):
+                methods |= {part.name for part in node.body if isinstance(part, ast.FunctionDef)}
+            if isinstance(node, ast.Attribute) and isinstance(node.ctx, ast.Store):
+                values.add(node.attr)
+        self.assertEqual(methods & values, set())
+        for value in values:
+            for kind in (str, int, list, dict, set, bytes, tuple):
+                self.assertFalse(hasattr(kind, value), value)
+
+    def test_powers_have_a_written_exponent(self):
+        for name, node in nodes():
+            if isinstance(node, (ast.BinOp, ast.AugAssign)) and isinstance(node.op, ast.Pow):
+                self.assertIsInstance(node.right, ast.Constant, f"{name}:{node.lineno}")
+
+    def test_what_is_walked_is_walked_on_the_spot(self):
+        takers = {"list", "tuple", "dict", "sorted", "sum", "any", "all", "enumerate", "zip", "min", "max"}
+        for name, tree in trees():
+            walked = [node.iter for node in ast.walk(tree) if isinstance(node, (ast.For, ast.comprehension))]
+            walked += [node.args[0] for node in ast.walk(tree) if isinstance(node, ast.Call) and node.args
+                       and isinstance(node.func, ast.Name) and node.func.id in takers]
+            for node in ast.walk(tree):
+                if isinstance(node, ast.Call) and isinstance(node.func, ast.Name):
+                    if node.func.id in ("zip", "enumerate", "reversed", "range"):
+                        self.assertIn(node, walked, f"{name}:{node.lineno}")
+
     def test_no_fractions_and_no_percent_sign_in_texts(self):
         for name, node in nodes():
             self.assertNotIsInstance(node, ast.Div, name)

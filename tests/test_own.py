@@ -3,12 +3,15 @@
 import copy
 import unittest
 
-from oathduel.errors import BadLine, NotWhole
+from oathduel.errors import BadLine, NoFilling, NoHand, NotWhole
 from oathduel.papers import is_whole, sets_of
 from oathduel.plans import is_plan, plan_of
+from oathduel.players import Planned, losing_play, played_by
+from oathduel.search import Searcher, settled_paper
 from oathduel.sentences import comes_true, hand_of, is_sentence, is_set, left_of, stands_by
+from oathduel.shorter import joined_clauses, needed_lines, shortened_paper
 from oathduel.walks import winner_from, winner_of, winning_choices
-from tests.samples import drawn_sentences, whole_paper
+from tests.samples import drawn_sentences, other_of, plain_variables, whole_paper
 
 SENTENCE = ("wsws", [(1, 2), (-1, -2, 3), (), (3, -4), (1, 2)])
 
@@ -34,11 +37,36 @@ def questions():
             yield left_of, (sentence, begun)
             yield winner_from, (sentence, begun)
             yield winning_choices, (sentence, begun[:3])
+        yield settled_paper, (sentence,)
     for sentence, paper in [SPOILERS, WISHERS, NO_RULES] + drawn_papers():
         yield sets_of, (sentence, paper)
         yield is_whole, (sentence, paper)
         yield plan_of, (sentence, paper)
         yield is_plan, (sentence, paper[0], plan_of(sentence, paper))
+        yield needed_lines, (sentence, paper)
+        yield shortened_paper, (sentence, paper)
+        if paper[0] == "spoiler":
+            yield joined_clauses, (sentence, paper)
+        yield answers_by, (sentence, paper[0], plan_of(sentence, paper))
+        others = [True for variable in plain_variables(sentence, other_of(paper[0]))]
+        yield play_by_plan, (sentence, paper[0], plan_of(sentence, paper), others)
+        yield search_in_pieces, (sentence, [1, 2, 0, 100])
+
+
+def answers_by(sentence, hand, plan):
+    player = Planned(plan)
+    begun = [True] * len(sentence[0])
+    return [player.answer(variable, begun) for variable in plain_variables(sentence, hand)]
+
+
+def play_by_plan(sentence, hand, plan, others):
+    player = Planned(plan)
+    return (played_by(sentence, hand, player, others), losing_play(sentence, hand, player))
+
+
+def search_in_pieces(sentence, portions):
+    searcher = Searcher(sentence)
+    return ([(searcher.go(many), searcher.learnt()) for many in portions], searcher.paper())
 
 
 def drawn_papers():
@@ -180,6 +208,122 @@ class PapersAndPlansTest(unittest.TestCase):
             self.assertIs(is_plan(sentence, paper[0], told), False)
             told.pop()
             self.assertIs(is_plan(sentence, paper[0], told), True)
+
+
+class SearchersTest(unittest.TestCase):
+    def sentences(self):
+        return copy.deepcopy([SENTENCE, SPOILERS[0], WISHERS[0], NO_RULES[0]] + drawn_sentences(18, 30, (4, 5), 9))
+
+    def test_changing_the_sentence_behind_the_making_changes_nothing(self):
+        for sentence in self.sentences():
+            still = Searcher(copy.deepcopy(sentence))
+            searcher = Searcher(sentence)
+            sentence[1].append(())
+            sentence[1].reverse()
+            for many in (0, 1, 1, 3, 100):
+                self.assertIs(searcher.go(many), still.go(many))
+                self.assertEqual(searcher.learnt(), still.learnt())
+                sentence[1].clear()
+            self.assertEqual(searcher.paper(), still.paper())
+
+    def test_changing_what_was_learnt_changes_nothing_told_later(self):
+        for sentence in self.sentences():
+            still = Searcher(sentence)
+            searcher = Searcher(sentence)
+            for many in (0, 1, 1, 3, 100):
+                self.assertIs(searcher.go(many), still.go(many))
+                for told in searcher.learnt():
+                    told[1].append(("given", 0))
+                    told[1].reverse()
+                self.assertEqual(searcher.learnt(), still.learnt())
+            self.assertEqual(searcher.paper(), still.paper())
+
+    def test_what_was_learnt_stays_as_it_was_told(self):
+        for sentence in self.sentences():
+            searcher = Searcher(sentence)
+            searcher.go(2)
+            told = searcher.learnt()
+            ahead = copy.deepcopy(told)
+            searcher.go(100)
+            self.assertEqual(told, ahead)
+
+    def test_changing_a_told_paper_changes_nothing_told_later(self):
+        for sentence in self.sentences():
+            searcher = Searcher(sentence)
+            searcher.go(100)
+            for paper in (searcher.paper, lambda: settled_paper(sentence)):
+                told = paper()
+                ahead = copy.deepcopy(told)
+                learnt = searcher.learnt()
+                told[1].append(None)
+                told[1].reverse()
+                self.assertEqual(paper(), ahead)
+                self.assertEqual(searcher.learnt(), learnt)
+                self.assertIs(searcher.go(100), True)
+                self.assertEqual(paper(), ahead)
+
+    def test_no_told_list_is_one_that_was_handed_in_or_told_ahead(self):
+        for sentence in self.sentences():
+            searcher = Searcher(sentence)
+            searcher.go(100)
+            lists = [sentence[1]] + [told[1] for told in searcher.learnt() + searcher.learnt()]
+            lists += [searcher.paper()[1], searcher.paper()[1], settled_paper(sentence)[1]]
+            self.assertEqual(len({id(told) for told in lists}), len(lists))
+
+
+class ShorterTest(unittest.TestCase):
+    def papers(self):
+        return copy.deepcopy([SPOILERS, WISHERS, NO_RULES] + drawn_papers())
+
+    def test_no_told_list_is_one_that_was_handed_in(self):
+        for sentence, paper in self.papers():
+            told = [needed_lines(sentence, paper), shortened_paper(sentence, paper)[1]]
+            if paper[0] == "spoiler":
+                told += [joined_clauses(sentence, (paper[0], lines))[1] for lines in ([], paper[1])]
+            for part in told:
+                self.assertIsNot(part, paper[1])
+                self.assertIsNot(part, sentence[1])
+
+    def test_changing_a_told_list_changes_nothing_told_later(self):
+        for sentence, paper in self.papers():
+            asked = copy.deepcopy((sentence, paper))
+            questions = [lambda: needed_lines(sentence, paper), lambda: shortened_paper(sentence, paper)[1]]
+            if paper[0] == "spoiler":
+                questions.append(lambda: joined_clauses(sentence, paper)[1])
+            for question in questions:
+                told = question()
+                ahead = list(told)
+                told.append(None)
+                told.reverse()
+                self.assertEqual((sentence, paper), asked)
+                self.assertEqual(question(), ahead)
+
+    def test_changing_what_was_handed_in_changes_nothing_told(self):
+        for sentence, paper in self.papers():
+            told = [needed_lines(sentence, paper), shortened_paper(sentence, paper)]
+            if paper[0] == "spoiler":
+                told.append(joined_clauses(sentence, paper))
+            ahead = copy.deepcopy(told)
+            sentence[1].clear()
+            paper[1].clear()
+            self.assertEqual(told, ahead)
+
+    def test_what_is_refused_stays_as_it_was(self):
+        for lines in ([["given", 0]], [("given", 0), ["drop", [0]]], [("hits", [1, 2]), None], []):
+            for hand in ("wisher", "spoiler"):
+                arguments = (("ws", [(1, 2)]), (hand, lines))
+                ahead = copy.deepcopy(arguments)
+                for question in (needed_lines, shortened_paper):
+                    with self.assertRaises((BadLine, NotWhole)):
+                        question(*arguments)
+                if lines or hand == "wisher":
+                    with self.assertRaises((BadLine, NoHand)):
+                        joined_clauses(*arguments)
+                self.assertEqual(arguments, ahead)
+        others = [True, False, True]
+        with self.assertRaises(NoFilling):
+            played_by(("ws", []), "wisher", Planned([(1, [], True)]), others)
+        self.assertEqual(others, [True, False, True])
 
 
 if __name__ == "__main__":
