@@ -2,15 +2,8 @@
 
 from oathduel.errors import BadLine, NotWhole
 from oathduel.literals import dropped, joined, stands_both_ways, variables_of
-from oathduel.sentences import SPOILER, WISHER, is_number, is_set, other_hand
-
-
-def is_place(thing, many):
-    return is_number(thing) and 0 <= thing < many
-
-
-def has_form(line, word, parts):
-    return isinstance(line, tuple) and len(line) == parts and line[0] == word
+from oathduel.parts import begins_with, is_number, is_place
+from oathduel.sentences import SPOILER, WISHER, is_set, other_hand
 
 
 def given_set(sentence, place):
@@ -19,8 +12,16 @@ def given_set(sentence, place):
     return sentence[1][place]
 
 
+def hits(literals, clause):
+    # Papers may have thousands of such lines, so a clause is left at the first literal that is in it.
+    for literal in literals:
+        if literal in clause:
+            return True
+    return False
+
+
 def hits_each(literals, clauses):
-    return all([any([literal in clause for literal in literals]) for clause in clauses])
+    return all([hits(literals, clause) for clause in clauses])
 
 
 def hits_set(sentence, literals):
@@ -50,13 +51,13 @@ def drop_set(sentence, hand, place, ahead):
 
 def line_set(sentence, hand, line, ahead):
     # A bad line is told by None here and in what is asked below, as sets_of alone knows the place to refuse it by.
-    if hand == SPOILER and has_form(line, "given", 2):
+    if hand == SPOILER and begins_with(line, "given", 2):
         return given_set(sentence, line[1])
-    if hand == WISHER and has_form(line, "hits", 2):
+    if hand == WISHER and begins_with(line, "hits", 2):
         return hits_set(sentence, line[1])
-    if has_form(line, "join", 4):
+    if begins_with(line, "join", 4):
         return join_set(sentence, hand, line, ahead)
-    if has_form(line, "drop", 2):
+    if begins_with(line, "drop", 2):
         return drop_set(sentence, hand, line[1], ahead)
     return None
 

@@ -2,7 +2,8 @@
 
 from oathduel.literals import turned_about, variables_of
 from oathduel.papers import whole_sets
-from oathduel.sentences import SPOILER, is_number, is_set
+from oathduel.parts import is_number
+from oathduel.sentences import SPOILER, is_set
 
 
 def is_rule(thing, variable):

@@ -33,31 +33,29 @@ class Planned(Player):
         return entry[1]
 
 
-def played_by(sentence, hand, player, others):
-    if len(others) != len(variables_of(sentence, other_hand(hand))):
-        raise NoFilling("there must be one value for each variable of the other hand")
-    behind = list(others)
-    filling = []
-    for variable in range(1, len(sentence[0]) + 1):
-        if hand_of(sentence, variable) == hand:
-            filling.append(player.answer(variable, filling))
-        else:
-            filling.append(behind.pop(0))
+def played_on(sentence, hand, player, begun):
+    # Up to the other hand's next turn: so a walk through its values goes only as deep as it has variables.
+    filling = list(begun)
+    while len(filling) < len(sentence[0]) and hand_of(sentence, len(filling) + 1) == hand:
+        filling.append(player.answer(len(filling) + 1, filling))
     return filling
 
 
-def loses_by(sentence, hand, filling):
-    return comes_true(sentence, filling) != (hand == WISHER)
+def played_by(sentence, hand, player, others):
+    if len(others) != len(variables_of(sentence, other_hand(hand))):
+        raise NoFilling("there must be one value for each variable of the other hand")
+    filling = played_on(sentence, hand, player, [])
+    for value in others:
+        filling = played_on(sentence, hand, player, filling + [value])
+    return filling
 
 
-def losing_from(sentence, hand, player, begun, others):
-    variable = len(begun) + 1
-    if variable > len(sentence[0]):
-        return others if loses_by(sentence, hand, begun) else None
-    if hand_of(sentence, variable) == hand:
-        return losing_from(sentence, hand, player, begun + [player.answer(variable, begun)], others)
+def first_loss(sentence, hand, player, loses, begun, others):
+    filling = played_on(sentence, hand, player, begun)
+    if len(filling) == len(sentence[0]):
+        return others if loses(filling) else None
     for value in (False, True):
-        found = losing_from(sentence, hand, player, begun + [value], others + [value])
+        found = first_loss(sentence, hand, player, loses, filling + [value], others + [value])
         # The empty list is a losing play too, so it is not asked whether there is something in it.
         if found is not None:
             return found
@@ -65,4 +63,6 @@ def losing_from(sentence, hand, player, begun, others):
 
 
 def losing_play(sentence, hand, player):
-    return losing_from(sentence, hand, player, [], [])
+    return first_loss(
+        sentence, hand, player, lambda filling: comes_true(sentence, filling) != (hand == WISHER), [], []
+    )

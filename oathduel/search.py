@@ -2,6 +2,7 @@
 
 from oathduel.errors import NotWhole
 from oathduel.literals import dropped, joined
+from oathduel.papers import hits
 from oathduel.sentences import SPOILER, WISHER, hand_of, literal_by, stands_by
 from oathduel.shorter import shortened_paper
 
@@ -19,7 +20,7 @@ def rest_behind(rest, literal):
 def hitting_set(sentence, begun):
     chosen = []
     for clause in sentence[1]:
-        if not any([literal in clause for literal in chosen]):
+        if not hits(chosen, clause):
             standing = [literal for literal in clause if stands_by(literal, begun)]
             # The wisher's own literals go out by drops; each of the spoiler's may cost a search and a join.
             wishers = [literal for literal in standing if hand_of(sentence, abs(literal)) == WISHER]

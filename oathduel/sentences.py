@@ -1,14 +1,10 @@
 """Sets, sentences and fillings: what they are, what stands, what comes true, what is left."""
 
 from oathduel.errors import NoVariable
+from oathduel.parts import is_number
 
 WISHER = "wisher"
 SPOILER = "spoiler"
-
-
-def is_number(thing):
-    # Python counts True and False among its whole numbers; here they are none.
-    return isinstance(thing, int) and not isinstance(thing, bool)
 
 
 def is_set(thing, most):

@@ -30,3 +30,14 @@ def winner_from(sentence, begun):
 def winning_choices(sentence, begun):
     hand = hand_of(sentence, len(begun) + 1)
     return [value for value in (False, True) if winner_from(sentence, begun + [value]) == hand]
+
+
+def winner_by(turns, begun, comes_out):
+    # Forms and rounds have no clauses by which the walk could end early: they are asked of whole fillings alone.
+    if len(begun) == len(turns):
+        return WISHER if comes_out(begun) else SPOILER
+    hand = hand_of((turns, []), len(begun) + 1)
+    for value in (False, True):
+        if winner_by(turns, begun + [value], comes_out) == hand:
+            return hand
+    return other_hand(hand)

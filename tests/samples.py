@@ -237,6 +237,18 @@ def drawn_line(draw, sentence, sets):
     return (word, draw.randint(0, len(sets)))
 
 
+def spoilers_paper(draw, sentence):
+    """A paper of the spoiler's of which no line is bad, whoever wins, and the sets of its lines."""
+    lines, sets = [], []
+    for count in range(30):
+        line = drawn_line(draw, sentence, sets)
+        literals = plain_line_set(sentence, "spoiler", line, sets)
+        if literals is not None:
+            lines.append(line)
+            sets.append(literals)
+    return ("spoiler", lines), sets
+
+
 def padded_paper(draw, sentence):
     """A whole paper of the hand that wins, with lines between that are not needed, or that are alike."""
     hand, plain_lines = whole_paper(sentence)
@@ -265,3 +277,144 @@ def padded_paper(draw, sentence):
     if sets[-1] != ():
         lines.append(("drop", alike(-1)))
     return (hand, lines)
+
+
+def plain_smaller(sentence, step):
+    """The clauses behind a step of one of the five words and of whole numbers, or None where it is no step."""
+    clauses = sentence[1]
+    wishers = plain_variables(sentence, "wisher")
+    places = dict(enumerate(clauses))
+    if step[0] == "pure":
+        literal = step[1]
+        standing = {other for clause in clauses for other in clause}
+        if literal not in standing or -literal in standing:
+            return None
+        if abs(literal) in wishers:
+            return [clause for clause in clauses if literal not in clause]
+        return [tuple(other for other in clause if other != literal) for clause in clauses]
+    if step[1] not in places:
+        return None
+    clause = places[step[1]]
+    if step[0] == "drop":
+        return [plain_drop(sentence, "spoiler", clause) if k == step[1] else places[k] for k in places]
+    if step[0] == "unit":
+        if len(clause) != 1 or abs(clause[0]) not in wishers:
+            return None
+        return [tuple(x for x in other if x != -clause[0]) for other in clauses if clause[0] not in other]
+    left = [places[k] for k in places if k != step[1]]
+    if step[0] == "within":
+        another = step[2] in places and step[2] != step[1]
+        return left if another and set(places[step[2]]) <= set(clause) else None
+    literal = step[2]
+    if literal not in clause or abs(literal) not in wishers:
+        return None
+    opposed = [other for other in clauses if -literal in other]
+    blocked = all(any(abs(x) < abs(literal) and -x in clause for x in other) for other in opposed)
+    return left if blocked else None
+
+
+def tried_steps(sentence):
+    """Tuples of the five words, with places and literals somewhat further out than there are any."""
+    places = range(-2, len(sentence[1]) + 2)
+    literals = range(-len(sentence[0]) - 1, len(sentence[0]) + 2)
+    return (
+        [(word, k) for word in ("drop", "unit") for k in places]
+        + [("pure", literal) for literal in literals]
+        + [("within", k, j) for k in places for j in places]
+        + [("blocked", k, literal) for k in places for literal in literals]
+    )
+
+
+def all_steps(sentence):
+    return [step for step in tried_steps(sentence) if plain_smaller(sentence, step) is not None]
+
+
+def size_of(clauses):
+    """How many clauses there are, and how many literals in them."""
+    return (len(clauses), sum(len(clause) for clause in clauses))
+
+
+def drawn_node(draw, place, most):
+    words = ["yes", "no"] + ["in"] * 3 * (most > 0)
+    words += ["not", "not", "and", "and", "and", "or", "or", "or"] * (place > 0)
+    word = draw.choice(words)
+    if word in ("yes", "no"):
+        return (word,)
+    if word == "in":
+        return (word, draw.randint(1, most))
+    return (word,) + tuple(draw.randrange(place) for k in range(1 if word == "not" else 2))
+
+
+def drawn_form(draw, most, many):
+    """A form of so many nodes over the variables from 1 to most."""
+    return [drawn_node(draw, place, most) for place in range(many)]
+
+
+def drawn_forms(seed, many, counts, most_nodes):
+    """Turns of one of these counts, each with a form over their variables."""
+    draw = random.Random(seed)
+    for number in range(many):
+        turns = "".join(draw.choice("ws") for k in range(draw.choice(counts)))
+        yield turns, drawn_form(draw, len(turns), draw.randint(1, most_nodes))
+
+
+def dense_form(draw, most, many):
+    """A form of so many nodes whose end hangs on many of those ahead."""
+    nodes = [("in", v) for v in range(1, most + 1)]
+    for place in range(most, many):
+        word = draw.choice(("not", "and", "or"))
+        nodes.append((word, place - 1) if word == "not" else (word, place - 1, draw.randrange(place)))
+    return nodes[:many]
+
+
+def plain_form_true(nodes, filling):
+    values = []
+    for word, *named in nodes:
+        parts = [filling[k - 1] if word == "in" else values[k] for k in named]
+        values.append({
+            "yes": True, "no": False, "in": parts == [True], "not": parts == [False], "and": False not in parts,
+            "or": True in parts,
+        }[word])
+    return values[-1]
+
+
+def sentence_form(sentence):
+    """The sentence as a form over its variables."""
+    nodes = [("yes",), ("no",)]
+    whole = 0
+    for clause in sentence[1]:
+        some = 1
+        for literal in clause:
+            nodes.append(("in", abs(literal)))
+            if literal < 0:
+                nodes.append(("not", len(nodes) - 1))
+            nodes.append(("or", some, len(nodes) - 1))
+            some = len(nodes) - 1
+        nodes.append(("and", whole, some))
+        whole = len(nodes) - 1
+    return nodes + [("and", whole, whole)]
+
+
+def plain_form_winner(turns, nodes, begun):
+    """Who wins where the wisher wants the form to come true, by every whole filling behind what is begun."""
+    if len(begun) == len(turns):
+        return "wisher" if plain_form_true(nodes, begun) else "spoiler"
+    hand = plain_hand((turns, []), len(begun) + 1)
+    winners = [plain_form_winner(turns, nodes, begun + [value]) for value in (True, False)]
+    return hand if hand in winners else other_of(hand)
+
+
+def drawn_game(draw, bits, count, most_nodes):
+    """A game of so many bits, and of so many choices a round."""
+    turns = "".join(draw.choice("ws") for k in range(count))
+    nexts = [drawn_form(draw, bits + count, draw.randint(1, most_nodes)) for k in range(bits)]
+    first = [draw.choice((False, True)) for k in range(bits)]
+    return (bits, first, turns, nexts, drawn_form(draw, bits, draw.randint(1, most_nodes)))
+
+
+def plain_last_state(game, choices):
+    """The state behind the rounds whose choices are given one behind the other."""
+    state, count = game[1], len(game[2])
+    for begin in range(0, len(choices), count):
+        state = [plain_form_true(form, state + choices[begin:begin + count]) for form in game[3]]
+    return state

@@ -7,9 +7,13 @@ from oathduel.errors import DuelError
 from oathduel.papers import sets_of
 from oathduel.plans import plan_of
 from oathduel.players import Planned, played_by
+from oathduel.rounds import game_winner, unrolled_game
 from oathduel.search import Searcher
 from oathduel.sentences import hand_of, stands_by
+from oathduel.shapes import clauses_of, form_losing_play, form_winner
 from oathduel.shorter import joined_clauses, needed_lines, shortened_paper
+from oathduel.steps import player_back, smaller_by
+from oathduel.texts import read_paper, read_sentence
 from oathduel.walks import winning_choices
 
 NAMES = ("NoVariable", "NoFilling", "BadLine", "NotWhole", "NoHand", "BadStep", "NoForm", "TooMany", "NoText")
@@ -63,6 +67,7 @@ class ErrorsTest(unittest.TestCase):
             lambda: winning_choices(("ws", []), [True, False]),
             lambda: Planned([(1, [], True)]).answer(2, [True]),
             lambda: Planned([]).answer(0, []),
+            lambda: player_back(("ws", [(1,)]), ("unit", 0), "wisher", Planned([(1, [], True)])).answer(2, [True]),
         )
         for question in questions:
             self.assert_refused(errors.NoVariable, question)
@@ -91,6 +96,35 @@ class ErrorsTest(unittest.TestCase):
     def test_what_is_raised_is_no_hand_and_nothing_else(self):
         for lines in ([], [("hits", (1,))], [("hits", (2,)), ("drop", 0)]):
             self.assert_refused(errors.NoHand, lambda: joined_clauses(("ws", [(1, 2)]), ("wisher", lines)))
+
+    def test_what_is_raised_is_bad_step_and_nothing_else(self):
+        sentence = ("ws", [(1, 2)])
+        player = Planned([(2, [], True)])
+        for step in ((), ("drop",), ("drop", 1), ("unit", 0), ("pure", -1), ("within", 0, 0), ("blocked", 0, 2)):
+            self.assert_refused(errors.BadStep, lambda: smaller_by(sentence, step))
+            self.assert_refused(errors.BadStep, lambda: player_back(sentence, step, "spoiler", player))
+
+    def test_what_is_raised_is_no_form_and_nothing_else(self):
+        for nodes in (None, [], [("in", 2)], [("not", 0)]):
+            for question in (
+                lambda: clauses_of("w", nodes), lambda: form_winner("w", nodes),
+                lambda: form_losing_play("w", nodes, "wisher", Planned([(1, [], True)])),
+                lambda: game_winner((1, [True], "w", [[("yes",)]], nodes), 1),
+                lambda: unrolled_game((1, [True], "w", [nodes], nodes), 1), lambda: game_winner(nodes, 5),
+                lambda: unrolled_game(nodes, -1),
+            ):
+                self.assert_refused(errors.NoForm, question)
+
+    def test_what_is_raised_is_too_many_and_nothing_else(self):
+        game = (1, [True], "w", [[("in", 1)]], [("in", 1)])
+        for rounds in (-1, 5, 10 ** 59, 10 ** 5000):
+            self.assert_refused(errors.TooMany, lambda: game_winner(game, rounds))
+            self.assert_refused(errors.TooMany, lambda: unrolled_game(game, rounds))
+
+    def test_what_is_raised_is_no_text_and_nothing_else(self):
+        for text in ("", "w\n", "w\n1", "w\n2 0", "x", "wisher\ngiven 0", "spoiler\nhits 1", "wisher\nhits 01"):
+            self.assert_refused(errors.NoText, lambda: read_sentence(text))
+            self.assert_refused(errors.NoText, lambda: read_paper(text))
 
 
 if __name__ == "__main__":

@@ -1,17 +1,24 @@
 """Point 1: nothing handed in is changed, what is told is the asker's own, and no clock, chance or file is used."""
 
 import copy
+import random
 import unittest
 
-from oathduel.errors import BadLine, NoFilling, NoHand, NotWhole
+from oathduel.errors import BadLine, BadStep, NoFilling, NoForm, NoHand, NotWhole
 from oathduel.papers import is_whole, sets_of
 from oathduel.plans import is_plan, plan_of
 from oathduel.players import Planned, losing_play, played_by
+from oathduel.rounds import game_winner, unrolled_game
 from oathduel.search import Searcher, settled_paper
 from oathduel.sentences import comes_true, hand_of, is_sentence, is_set, left_of, stands_by
+from oathduel.shapes import clauses_of, form_losing_play, form_true, form_winner, is_form
 from oathduel.shorter import joined_clauses, needed_lines, shortened_paper
+from oathduel.steps import all_smaller, next_step, player_back, smaller_by
+from oathduel.texts import read_paper, read_sentence, shown_paper, shown_sentence
 from oathduel.walks import winner_from, winner_of, winning_choices
-from tests.samples import drawn_sentences, other_of, plain_variables, whole_paper
+from tests.samples import (
+    all_steps, drawn_form, drawn_game, drawn_sentences, other_of, plain_variables, sentence_form, whole_paper,
+)
 
 SENTENCE = ("wsws", [(1, 2), (-1, -2, 3), (), (3, -4), (1, 2)])
 
@@ -51,6 +58,46 @@ def questions():
         others = [True for variable in plain_variables(sentence, other_of(paper[0]))]
         yield play_by_plan, (sentence, paper[0], plan_of(sentence, paper), others)
         yield search_in_pieces, (sentence, [1, 2, 0, 100])
+        yield shown_paper, (paper,)
+        yield read_paper, (shown_paper(paper),)
+    yield from later_questions()
+
+
+def later_questions():
+    draw = random.Random(19)
+    for sentence in [SENTENCE] + drawn_sentences(4, 30, (4,), 5):
+        for step in all_steps(sentence)[::3]:
+            yield smaller_by, (sentence, step)
+            for hand in ("wisher", "spoiler"):
+                plan = [(variable, [], True) for variable in plain_variables(sentence, hand)]
+                yield answers_led_back, (sentence, step, hand, plan)
+        yield next_step, (sentence,)
+        yield all_smaller, (sentence,)
+        yield shown_sentence, (sentence,)
+        yield read_sentence, (shown_sentence(sentence),)
+        nodes = sentence_form(sentence)
+        for form in (nodes, drawn_form(draw, 4, 9)):
+            yield is_form, (form, 4)
+            yield form_true, (form, [True, False, True, False])
+            yield clauses_of, (sentence[0], form)
+            yield form_winner, (sentence[0], form)
+            yield form_loses_by_plan, (sentence[0], form, "wisher")
+        game = drawn_game(draw, 3, 2, 6)
+        for rounds in (0, 1, 3):
+            yield game_winner, (game, rounds)
+            yield unrolled_game, (game, rounds)
+
+
+def answers_led_back(sentence, step, hand, plan):
+    player = player_back(sentence, step, hand, Planned(plan))
+    begun = [False] * len(sentence[0])
+    told = [player.answer(variable, begun) for variable in plain_variables(sentence, hand)]
+    return (told, losing_play(sentence, hand, player))
+
+
+def form_loses_by_plan(turns, nodes, hand):
+    plan = [(variable, [], True) for variable in plain_variables((turns, []), hand)]
+    return form_losing_play(turns, nodes, hand, Planned(plan))
 
 
 def answers_by(sentence, hand, plan):
@@ -324,6 +371,58 @@ class ShorterTest(unittest.TestCase):
         with self.assertRaises(NoFilling):
             played_by(("ws", []), "wisher", Planned([(1, [], True)]), others)
         self.assertEqual(others, [True, False, True])
+
+
+def lists_in(thing):
+    """All lists that a thing is or holds."""
+    if not isinstance(thing, (list, tuple)):
+        return []
+    return [thing] * isinstance(thing, list) + [part for inner in thing for part in lists_in(inner)]
+
+
+class LaterStagesTest(unittest.TestCase):
+    def test_no_told_list_is_one_that_was_handed_in(self):
+        for function, arguments in later_questions():
+            handed = lists_in(arguments)
+            for part in lists_in(function(*arguments)):
+                self.assertFalse(any(part is other for other in handed), function.__name__)
+
+    def test_changing_what_is_told_changes_nothing_told_later(self):
+        for function, arguments in later_questions():
+            asked = copy.deepcopy(arguments)
+            told = function(*arguments)
+            ahead = copy.deepcopy(told)
+            for part in lists_in(told):
+                part.append(None)
+                part.reverse()
+            self.assertEqual(arguments, asked, function.__name__)
+            self.assertEqual(function(*arguments), ahead, function.__name__)
+
+    def test_changing_what_was_handed_in_changes_nothing_told(self):
+        for function, asked in later_questions():
+            arguments = copy.deepcopy(asked)
+            told = function(*arguments)
+            ahead = copy.deepcopy(told)
+            for part in lists_in(arguments):
+                part.clear()
+            self.assertEqual(told, ahead, function.__name__)
+
+    def test_what_is_refused_stays_as_it_was(self):
+        for step in (("drop", [0]), ("within", 0, [1]), ([], 0), ("pure", [[1]])):
+            arguments = (("ws", [(1, 2)]), step)
+            ahead = copy.deepcopy(arguments)
+            with self.assertRaises(BadStep):
+                smaller_by(*arguments)
+            self.assertEqual(arguments, ahead)
+        for nodes in ([["yes"]], [("yes",), ("not", [0])], [[]], (("yes",),)):
+            ahead = copy.deepcopy(nodes)
+            for question in (clauses_of, form_winner):
+                with self.assertRaises(NoForm):
+                    question("ws", nodes)
+            for question in (game_winner, unrolled_game):
+                with self.assertRaises(NoForm):
+                    question((1, [True], "w", [nodes], nodes), 1)
+            self.assertEqual(nodes, ahead)
 
 
 if __name__ == "__main__":

@@ -10,8 +10,8 @@ from oathduel.search import Searcher, settled_paper
 from oathduel.sentences import is_sentence
 from oathduel.shorter import joined_clauses, needed_lines, shortened_paper
 from tests.samples import (
-    MANY_FIGURES, drawn_line, drawn_sentences, padded_paper, plain_line_set, plain_sets, plain_winner, plan_wins,
-    small_sentences, whole_paper,
+    MANY_FIGURES, drawn_sentences, padded_paper, plain_sets, plain_winner, plan_wins, small_sentences, spoilers_paper,
+    whole_paper,
 )
 
 SPOILERS = ("ws", [(1, 2), (-1, -2)])
@@ -329,14 +329,8 @@ class JoinedClausesTest(unittest.TestCase):
         draw = random.Random(317)
         more = 0
         for sentence in small_sentences():
-            lines, sets = [], []
-            for count in range(30):
-                line = drawn_line(draw, sentence, sets)
-                literals = plain_line_set(sentence, "spoiler", line, sets)
-                if literals is not None:
-                    lines.append(line)
-                    sets.append(literals)
-            told = joined_clauses(sentence, ("spoiler", lines))
+            paper, sets = spoilers_paper(draw, sentence)
+            told = joined_clauses(sentence, paper)
             self.assertIs(is_sentence(told), True)
             self.assertEqual(told[0], sentence[0])
             self.assertEqual(told[1][:len(sentence[1])], sentence[1])
