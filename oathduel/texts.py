@@ -5,6 +5,7 @@ from oathduel.parts import begins_with
 from oathduel.sentences import SPOILER, WISHER, is_sentence, is_set
 
 FIGURES = "0123456789"
+MOST_FIGURES = 9
 NO_TURNS = "-"
 
 
@@ -32,13 +33,11 @@ def read_number(piece):
     figures = piece[1:] if piece.startswith("-") else piece
     if not figures or any([sign not in FIGURES for sign in figures]):
         raise NoText("a number is made of figures")
+    if len(figures) > MOST_FIGURES:
+        raise NoText("a number has at most nine figures")
     if figures[0] == "0" and piece != "0":
         raise NoText("a number has no needless noughts")
-    number = 0
-    # Figure by figure, as Python refuses to read a number of thousands of them at once.
-    for figure in figures:
-        number = number * 10 + int(figure)
-    return -number if piece.startswith("-") else number
+    return int(piece)
 
 
 def read_numbers(pieces):

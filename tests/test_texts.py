@@ -108,11 +108,6 @@ class ReadTest(unittest.TestCase):
         self.assertEqual(read_paper("wisher\nhits 999999998 -999999999"), ("wisher", [("hits", literals)]))
         self.assertEqual(read_paper("spoiler\ngiven 999999999"), ("spoiler", [("given", 999999999)]))
 
-    def test_numbers_of_many_figures_are_read_again(self):
-        for paper in (("spoiler", [("given", MANY_FIGURES), ("join", 0, MANY_FIGURES, MANY_FIGURES)]),
-                      ("wisher", [("hits", (5, -MANY_FIGURES)), ("drop", MANY_FIGURES)])):
-            self.assertEqual(read_paper(shown_paper(paper)), paper)
-
     def test_the_same_hand_wins_what_is_read(self):
         for sentence in small_sentences()[::3]:
             self.assertEqual(winner_of(read_sentence(shown_sentence(sentence))), winner_of(sentence))
@@ -134,6 +129,14 @@ class ReadTest(unittest.TestCase):
             told[1].append(None)
             told[1].reverse()
             self.assertEqual(reader(text), ahead)
+
+
+def papers_with(number):
+    """A paper for each place in a line at which a number may stand."""
+    both = (f"drop {number}", f"join {number} 0 1", f"join 0 {number} 1", f"join 0 0 {number}")
+    wishers = both + (f"hits {number}", f"hits -{number}", f"hits\nhits {number}\nhits")
+    spoilers = both + (f"given {number}", f"given 0\ngiven {number}\ndrop 0")
+    return [f"wisher\n{lines}" for lines in wishers] + [f"spoiler\n{lines}" for lines in spoilers]
 
 
 class NoTextTest(unittest.TestCase):
@@ -235,11 +238,35 @@ class NoTextTest(unittest.TestCase):
         for paper, text in PAPERS:
             self.assert_no_sentence(text)
 
+    def test_numbers_of_ten_figures_and_more(self):
+        for number in (1, 10 ** 8, 10 ** 9 - 1):
+            for text in papers_with(number):
+                self.assertEqual(shown_paper(read_paper(text)), text)
+        for number in (10 ** 9, 10 ** 10 - 1, 10 ** 10, 10 ** 18, 10 ** 19, MANY_FIGURES):
+            for text in papers_with(number):
+                self.assert_no_paper(text)
+            self.assert_no_sentence(f"w\n{number} 0")
+            self.assert_no_sentence(f"w\n1 -{number} 0")
+
+    def test_the_sign_ahead_is_no_figure(self):
+        self.assertEqual(read_paper("wisher\nhits -123456789"), ("wisher", [("hits", (-123456789,))]))
+        for line in ("hits -1234567890", "hits -1000000000", "hits 1 -9999999999"):
+            self.assert_no_paper("wisher\n" + line)
+
+    def test_nine_figures_in_each_of_many_numbers(self):
+        literals = tuple([(-1) ** k * (10 ** 8 + k) for k in range(500)])
+        paper = ("wisher", [("hits", literals), ("join", 123456789, 987654321, 999999999), ("drop", 10 ** 9 - 1)])
+        self.assertEqual(read_paper(shown_paper(paper)), paper)
+        paper[1][0] = ("hits", literals + (10 ** 9,))
+        self.assert_no_paper(shown_paper(paper))
+
     def test_numbers_far_too_long(self):
         self.assert_no_sentence("w\n" + "1" * 19000 + " 0")
         self.assert_no_sentence("w\n-" + "9" * 19000 + " 0")
         self.assert_no_paper("wisher\nhits 1" + "0" * 19000 + " 1")
         self.assert_no_paper("wisher\ndrop -" + "9" * 19000)
+        self.assert_no_paper("wisher\ndrop " + "9" * 19000)
+        self.assert_no_paper("spoiler\ngiven 1" + "0" * 19000)
 
 
 SIGNS = "\n 0123456789-wsdropjinghtvel+~!"
@@ -276,11 +303,12 @@ class ChangedTextsTest(unittest.TestCase):
             self.assertGreater(len(read) - sum(read), 5000)
 
     def test_what_may_be_read_and_what_not_against_a_pattern(self):
-        literal = "-?[1-9][0-9]*"
+        literal = "-?[1-9][0-9]{0,8}"
         sentence = re.compile(rf"(-|[ws]+)(\n(({literal} )*)0)*")
-        lines = r"drop (0|[1-9][0-9]*)|join (0|[1-9][0-9]*) (0|[1-9][0-9]*) [1-9][0-9]*"
+        place = "(0|[1-9][0-9]{0,8})"
+        lines = rf"drop {place}|join {place} {place} [1-9][0-9]{{0,8}}"
         wishers = re.compile(rf"wisher(\n({lines}|hits( {literal})*))*")
-        spoilers = re.compile(rf"spoiler(\n({lines}|given (0|[1-9][0-9]*)))*")
+        spoilers = re.compile(rf"spoiler(\n({lines}|given {place}))*")
         for thing, text in SENTENCES:
             for changed in changed_texts(text, SIGNS):
                 if sentence.fullmatch(changed) is None:
